@@ -1,0 +1,1 @@
+"""Surelyset: names that are surely set before they are read."""

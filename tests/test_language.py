@@ -1,0 +1,88 @@
+"""Those rules of the language that are easily seen in the files of the package."""
+
+import ast
+import builtins
+import pathlib
+import unittest
+
+PACKAGE = pathlib.Path(__file__).resolve().parent.parent / "surelyset"
+FILES = sorted(PACKAGE.rglob("*.py"))
+BUILTINS = set("""len range enumerate zip min max sum abs sorted reversed int str bool bytes list tuple dict set isinstance
+    ord repr any all divmod map iter next Exception ValueError TypeError KeyError IndexError LookupError
+    ZeroDivisionError ArithmeticError OverflowError RuntimeError NotImplementedError NotImplemented property
+    staticmethod classmethod super""".split())
+METHODS = set("""append clear copy count endswith extend find get index insert isalnum isalpha isdigit islower isspace
+    isupper items join keys ljust lower lstrip partition pop remove replace reverse rfind rjust rpartition rsplit rstrip
+    setdefault split splitlines startswith strip update upper values zfill bit_length isascii isdecimal removeprefix
+    removesuffix add discard""".split())
+DUNDERS = set("""init eq repr str len enter exit call iter lt le gt ge ne and or contains getitem setitem bool""".split())
+BARRED = (ast.Global, ast.AsyncFunctionDef, ast.Await, ast.Div, ast.AnnAssign)
+
+
+class LanguageTest(unittest.TestCase):
+    def trees(self):
+        return [(path, ast.parse(path.read_text(encoding="utf-8"))) for path in FILES]
+
+    def own_names(self):
+        names = set()
+        for _, tree in self.trees():
+            for node in ast.walk(tree):
+                if isinstance(node, (ast.FunctionDef, ast.ClassDef)):
+                    names.add(node.name)
+        return names
+
+    def test_files(self):
+        self.assertTrue((PACKAGE / "__init__.py") in FILES)
+        for path in FILES:
+            text = path.read_text(encoding="utf-8")
+            self.assertTrue(text.isascii() and "\t" not in text, path)
+            lines = text.split("\n")
+            self.assertLess(len(lines), 400, path)
+            for at, line in enumerate(lines):
+                self.assertLessEqual(len(line), 120, f"{path}:{at + 1}")
+
+    def test_functions(self):
+        for path, tree in self.trees():
+            for node in ast.walk(tree):
+                if isinstance(node, ast.FunctionDef):
+                    self.assertLessEqual(node.end_lineno - node.lineno, 39, f"{path}:{node.lineno}")
+                    if node.name.startswith("__"):
+                        self.assertIn(node.name.strip("_"), DUNDERS, f"{path}:{node.lineno}")
+
+    def test_imports(self):
+        for path, tree in self.trees():
+            for node in ast.walk(tree):
+                self.assertNotIsInstance(node, ast.Import, path)
+                if isinstance(node, ast.ImportFrom):
+                    self.assertIn(node, tree.body)
+                    self.assertTrue(node.module.startswith("surelyset."), f"{path}:{node.lineno}")
+                    self.assertEqual([], [name.asname for name in node.names if name.asname])
+
+    def test_names(self):
+        for path, tree in self.trees():
+            for node in ast.walk(tree):
+                where = f"{path}:{getattr(node, 'lineno', 0)}"
+                self.assertNotIsInstance(node, BARRED, where)
+                if isinstance(node, ast.Name) and hasattr(builtins, node.id):
+                    self.assertIn(node.id, BUILTINS, where)
+                    self.assertIsInstance(node.ctx, ast.Load, where)
+                if isinstance(node, ast.arg):
+                    self.assertFalse(hasattr(builtins, node.arg), where)
+                if isinstance(node, ast.Constant) and isinstance(node.value, str):
+                    self.assertNotIn("\x25", node.value, where)
+
+    def test_methods(self):
+        own = self.own_names()
+        for path, tree in self.trees():
+            for node in ast.walk(tree):
+                if isinstance(node, ast.Call) and isinstance(node.func, ast.Attribute):
+                    self.assertIn(node.func.attr, own | METHODS | {"__init__"}, f"{path}:{node.lineno}")
+
+    def test_generator_expressions(self):
+        for path, tree in self.trees():
+            for node in ast.walk(tree):
+                self.assertNotIsInstance(node, ast.GeneratorExp, path)
+
+
+if __name__ == "__main__":
+    unittest.main()
