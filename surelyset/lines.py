@@ -40,7 +40,7 @@ def function_parts(parts):
 def array_parts(parts):
     """What the line of an array tells, or None."""
     numbers = [integer_of(part) for part in parts[2:]]
-    if len(numbers) < 1 or len(numbers) % 2 == 0 or None in numbers or not has_word_form(parts[1]):
+    if len(numbers) % 2 == 0 or None in numbers or not has_word_form(parts[1]):
         return None
     ranges = [(numbers[at], numbers[at + 1]) for at in range(1, len(numbers), 2)]
     return ("array", parts[1], numbers[0], tuple(ranges))

@@ -287,6 +287,19 @@ class BlocksTest(Base):
             self.assertEqual(spot_of(wrapped(statement, 7)), (0,) * 15)
         self.assertEqual(spot_of([("set", "x"), *wrapped(("back",), 8), 1]), (1, *(0,) * 14))
 
+    def test_depth_of_each_kind(self):
+        for kind in ("count", "either", "try", "handler", "last"):
+            block = []
+            for counter in "bcdefgh":
+                block = [{"count": ("count", counter, 0, 1, block), "either": ("either", [], block),
+                          "try": ("try", block, [], []), "handler": ("try", [], [([], block)], []),
+                          "last": ("try", [], [], block)}[kind]]
+            self.assertEqual(spot_of(block), None)
+            part = 0 if kind in ("count", "try") else 1
+            inner = ("while", block)
+            wanted = (0, 0, *(0, part) * 6, 0)
+            self.assertEqual(spot_of([inner]), wanted)
+
     def test_blocks_of_the_try(self):
         self.assertEqual(spot_of([("try", [1], [], [])]), (0, 0, 0))
         self.assertEqual(spot_of([("try", [], [], [("back",), 1])]), (0, 1, 1))

@@ -215,7 +215,7 @@ class WrongLineTest(Base):
                  "count v 0 -0", "count v 01 2", "count v 0  1", "count v a b", "or or", "or 1", "on ", "on a  b", "on A",
                  "on b a", "on a a", "on a 1", "finally 1", "finally ", "end end", "end ", "end either", "ende",
                  "function", "function ", "function F", "function f in", "function f in ", "function f of g",
-                 "function f in g h", "function f in G", "function f  in g", "function abcdefghi", "function f g",
+                 "function f in g h", "function f in G", "function F in g", "function  in g", "function f  in g", "function abcdefghi", "function f g",
                  "plain", "plain X", "plain x y", "given", "given 1", "array", "array a", "array a ", "array a b",
                  "array 1 a", "array A 1", "array a 1 2", "array a 1 2 3 4", "array a 01", "array a +1", "array a -0",
                  "array a 1 0 b", "array a 1 0 01", "array a 5 0 1 ", "\x00", "\u2028", "set x\x0b", "set x\x85"]
