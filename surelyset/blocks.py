@@ -22,6 +22,16 @@ def blocks_of(statement):
     return parts
 
 
+def handler_at(handlers, outcome):
+    """The index of the handler that goes on behind a try's block with this outcome, None if there is none."""
+    if not outcome.startswith("fail "):
+        return None
+    for at, (words, _) in enumerate(handlers):
+        if not words or outcome[5:] in words:
+            return at
+    return None
+
+
 def many_statements(block):
     """How many statements stand in a block, those within others counted."""
     return sum([1 + sum([many_statements(inner) for inner in blocks_of(statement)]) for statement in block])

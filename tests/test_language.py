@@ -66,6 +66,9 @@ class LanguageTest(unittest.TestCase):
                 if isinstance(node, ast.Name) and hasattr(builtins, node.id):
                     self.assertIn(node.id, BUILTINS, where)
                     self.assertIsInstance(node.ctx, ast.Load, where)
+                if isinstance(node, ast.BinOp) and isinstance(node.op, ast.Pow):
+                    self.assertIsInstance(node.right, ast.Constant, where)
+                    self.assertIn(node.right.value, range(65), where)
                 if isinstance(node, ast.arg):
                     self.assertFalse(hasattr(builtins, node.arg), where)
                 if isinstance(node, ast.Constant) and isinstance(node.value, str):
