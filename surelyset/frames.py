@@ -12,9 +12,9 @@ class Frame:
         self.changed = {}
 
     def frame_of(self, word):
-        """The frame of this function that is seen here, None for None."""
+        """The frame of this function that is seen here."""
         frame = self
-        while frame is not None and frame.word != word:
+        while frame.word != word:
             frame = frame.around
         return frame
 

@@ -63,10 +63,11 @@ class Checker:
         return self._program
 
     def __call__(self, spot, names=()):
+        """The states of the names, a list, with which runs come to the spot."""
         return self._states(spot, names)
 
     def _states(self, spot, names):
-        """The states of the names, a list, with which runs come to the spot."""
+        """What the call of a checker returns."""
         # Raises the error for what is no spot of the program.
         self._program.statement(spot)
         return self._desk.told_states(spot, names)

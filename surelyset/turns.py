@@ -22,7 +22,7 @@ def place_values(node, count, places):
     """The values of the counter with which a statement with a cell comes to one of the places."""
     _, _, low, high, _ = count.row
     more = node.row[2][1]
-    values = [place[2] - more for place in places if len(place) == 3 and place[:2] == node.target]
+    values = [place[2] - more for place in places if place[:2] == node.target]
     return [value for value in values if low <= value < high]
 
 

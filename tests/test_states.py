@@ -6,10 +6,12 @@ import random
 import unittest
 
 from surelyset import states as module
+from surelyset.cells import read_ranges
 from surelyset.programs import Program
+from surelyset.running import run
 from surelyset.states import Checker, faults, is_sound, states, verdict
 from tests.makers import SmallMaker
-from tests.plainly import Plainly, TooMuch, as_ranges, line
+from tests.plainly import Plainly, TooMuch, as_ranges
 from tests.support import any_values, failure, main_of, sample
 
 SIZE = 10 ** 30
@@ -399,9 +401,42 @@ class RandomTest(unittest.TestCase):
                 found.extend([(spot, cells)] if cells else [])
         return tuple(found)
 
-    def test_lines(self):
-        functions = {"main": (None, {}, []), "f": ("main", {}, []), "g": ("f", {}, [])}
-        self.assertEqual(["g", "f", "main"], line(functions, "g"))
+    def test_runs_by_choices(self):
+        """What runs by all rows of choices read is what is told, where there are not too many of them."""
+        whole = 0
+        for seed in range(250):
+            chance = random.Random(seed + 700)
+            program = Program(SmallMaker(chance, chance.choice([6, 10, 15]), 4).functions())
+            seen, is_whole = self.all_runs(program)
+            whole += is_whole
+            checker = Checker(program)
+            for spot in program.spots:
+                statement = program.statement(spot)
+                if statement and statement[0] == "read":
+                    told = {row == (S,) for row in checker(spot, [statement[1]])}
+                    self.assertLessEqual(seen.get(spot, set()), told, (program.functions, spot))
+                    if is_whole:
+                        self.assertEqual(seen.get(spot, set()), told, (program.functions, spot))
+                if statement and statement[0] == "look" and is_whole:
+                    told = {verdict for _, _, verdict in read_ranges(program, spot)}
+                    self.assertEqual(False in seen.get(spot, set()), "fault" in told, (program.functions, spot))
+                    self.assertEqual(spot in seen, told != set(), (program.functions, spot))
+        self.assertGreater(whole, 50)
+
+    def all_runs(self, program):
+        """A dict from spots to sets of what was read there, and whether these were all runs."""
+        seen, waiting, many = {}, [[]], 0
+        is_whole = True
+        while waiting and many < 300:
+            many += 1
+            choices = waiting.pop(0)
+            told = run(program, choices, most=150)
+            for spot, is_set in told.events:
+                seen.setdefault(spot, set()).add(is_set)
+            is_whole = is_whole and told.ending != "most"
+            if told.ending == "open":
+                waiting.extend([*choices, at] for at in range(3) if failure(run, program, [*choices, at], most=150) is None)
+        return seen, is_whole and not waiting
 
 
 if __name__ == "__main__":
