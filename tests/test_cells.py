@@ -6,7 +6,7 @@ import unittest
 from surelyset import cells as module
 from surelyset.cells import ranges, read_ranges
 from surelyset.programs import Program
-from surelyset.states import faults, verdict
+from surelyset.states import Checker, faults
 from tests.makers import SmallMaker
 from tests.plainly import Plainly, TooMuch, as_ranges
 from tests.support import any_values, failure, main_of, sample
@@ -284,6 +284,28 @@ class RandomTest(unittest.TestCase):
                 self.compare(functions, *chance.choice(arrays), chance)
                 compared += 1
         self.assertGreater(compared, 30)
+
+    def test_three_cells(self):
+        """The same of the states of three cells together."""
+        compared = 0
+        for seed in range(300):
+            chance = random.Random(seed + 300)
+            functions = FarMaker(chance, chance.choice([6, 10, 15]), chance.choice([3, 4]), chance.choice([0, 0, 1]), 2).functions()
+            arrays = [(name, word) for name in functions for word, own in functions[name][1].items() if isinstance(own, tuple)]
+            if not arrays:
+                continue
+            name, array = chance.choice(arrays)
+            cells = chance.sample([0, 1, 2, 3, 9, 10, FAR - 4, FAR - 3, FAR - 2, FAR - 1], 3)
+            names = [(array, cell) for cell in cells]
+            plainly = Plainly(functions, {(name, (array, cell)) for cell in cells}).run_main()
+            small, great = Checker(Program(functions)), Checker(Program(moved(functions)))
+            for spot in small.program.spots:
+                if spot[0] == name:
+                    told = plainly.states(spot, names)
+                    self.assertEqual(told, small(spot, names), (functions, spot, names))
+                    self.assertEqual(told, great(spot, moved(names)), (functions, spot, names))
+                    compared += len(told) > 1
+        self.assertGreater(compared, 100)
 
     def compare(self, functions, name, array, chance):
         small, great = Program(functions), Program(moved(functions))
