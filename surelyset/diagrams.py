@@ -5,18 +5,25 @@ a choice: its rank tells which of the counts around, from the outermost one on, 
 one for each kind of rounds of that count. Ranks grow from a diagram to its branches. Equal diagrams have equal
 numbers, and branches that are all equal make no diagram of their own; so what rounds of many counts do is not
 gone through round by round, as far as they do the same.
+
+Instead of masks there may be leaves of another kind, in a class below: 0 for nothing at all, KEPT for what does
+nothing, greater numbers for all else.
 """
 
 from surelyset.marks import KEPT, mask_followed
 
-# The rank of masks: no count is as deep.
+# The rank of leaves: no count is as deep.
 NO_RANK = 99
+# So many rounds do what more of them do: each place was last set or dropped in one of three at most.
+MANY_ROUNDS = 4
 
 
 class Diagrams:
     """The diagrams that were made."""
 
     def __init__(self):
+        # What the beginning of a statement or a round does.
+        self.step = KEPT
         self.ranks = {}
         self.branches = {}
         self.numbers = {}
@@ -26,6 +33,38 @@ class Diagrams:
         self.partings = {}
         self.wholes = {}
         self.flats = {}
+
+    def leaf(self, code):
+        """The leaf for this code alone."""
+        return 1 << code
+
+    def leaf_followed(self, one, other):
+        """What two leaves do one after the other."""
+        return mask_followed(one, other)
+
+    def leaf_joined(self, one, other):
+        """What one leaf or the other one does."""
+        return one | other
+
+    def wrapped(self, one, tag):
+        """The same as a part, of this kind, of what is around it; masks do not tell parts."""
+        return one
+
+    def started(self, turn, rounds):
+        """What is done ahead of any of so many rounds, each of which does this."""
+        told = 0
+        at = KEPT
+        for _ in range(min(int(rounds), MANY_ROUNDS)):
+            told = self.joined(told, at)
+            at = self.followed(at, turn)
+        return told
+
+    def repeated(self, turn, rounds):
+        """What is done by so many rounds, each of which does this."""
+        told = KEPT
+        for _ in range(min(int(rounds), MANY_ROUNDS)):
+            told = self.followed(told, turn)
+        return told
 
     def rank_of(self, one):
         """The rank of a diagram."""
@@ -70,7 +109,7 @@ class Diagrams:
     def new_followed(self, one, other):
         """As followed, where it was not asked before."""
         if one > 0 and other > 0:
-            return mask_followed(one, other)
+            return self.leaf_followed(one, other)
         rank, pairs = self.pairs_at(one, other)
         return self.made(rank, [self.followed(first, second) for first, second in pairs])
 
@@ -81,7 +120,7 @@ class Diagrams:
         if one == 0:
             return other
         if one > 0 and other > 0:
-            return one | other
+            return self.leaf_joined(one, other)
         key = (one, other)
         if key not in self.joins:
             rank, pairs = self.pairs_at(one, other)
@@ -132,12 +171,12 @@ class Diagrams:
         return whole
 
     def flat(self, one):
-        """The mask of what any rounds of all counts do."""
+        """The leaf of what any rounds of all counts do."""
         if one >= 0:
             return one
         if one not in self.flats:
-            mask = 0
+            whole = 0
             for branch in self.branches[one]:
-                mask |= self.flat(branch)
-            self.flats[one] = mask
+                whole = self.joined(whole, self.flat(branch))
+            self.flats[one] = whole
         return self.flats[one]

@@ -3,20 +3,23 @@
 An effect is a dict from outcomes to diagrams of what is done to the places up to this outcome, none of them 0.
 The heads of a statement are a list of diagrams, one for each of its blocks: of what is done from the beginning
 of the statement to the beginnings of the block, any of its rounds counted.
+
+What is done in a part of a statement is wrapped with a tag: ("either", k) for the block k, ("round",) for a
+round, ("part", k) for the blocks of a try (its own one, the handler, the last one), ("loop",) for all rounds of a
+loop and ("try",) for all parts of a try. Heads are wrapped with tags that begin with "open".
 """
 
 from surelyset.blocks import handler_at
-from surelyset.marks import KEPT
+from surelyset.diagrams import MANY_ROUNDS
+from surelyset.marks import KEEP, KEPT
 from surelyset.turns import turns_of, values_of
 
 # The digits of set and unset.
 DIGITS = {"set": 1, "put": 1, "drop": 2, "cut": 2}
-# So many rounds do what more of them do: each place was last set or dropped in one of three at most.
-MANY_ROUNDS = 4
 
 
 class Effects:
-    """Effects for places; ends is a dict from functions to those of calls, dicts from outcomes to masks."""
+    """Effects for places; ends is a dict from functions to those of calls, dicts from outcomes to leaves."""
 
     def __init__(self, outline, diagrams, places, ends):
         self.diagrams = diagrams
@@ -60,80 +63,88 @@ class Effects:
             self.heads[node.spot] = heads
         return self.known[node.spot]
 
-    def mark(self, place, word):
-        """The mask of what a statement with this word does that comes to this place or cell."""
-        return 1 << (DIGITS[word] * self.weights[place]) if place in self.weights else KEPT
+    def marked_leaf(self, place, word):
+        """The leaf of what a statement with this word does that comes to this place or cell."""
+        return self.diagrams.leaf(DIGITS[word] * self.weights[place] if place in self.weights else KEEP)
 
-    def started(self, turn, rounds):
-        """What is done ahead of any of so many rounds, each of which does this."""
-        told = 0
-        at = KEPT
-        for _ in range(min(int(rounds), MANY_ROUNDS)):
-            told = self.diagrams.joined(told, at)
-            at = self.diagrams.followed(at, turn)
-        return told
+    def begun(self, one):
+        """What a statement or a round does that begins and then does this."""
+        return self.diagrams.followed(self.diagrams.step, one)
 
-    def repeated(self, turn, rounds):
-        """What is done by so many rounds, each of which does this."""
-        told = KEPT
-        for _ in range(min(int(rounds), MANY_ROUNDS)):
-            told = self.diagrams.followed(told, turn)
-        return told
+    def whole(self, effect, tag):
+        """The effect of a statement whose blocks have this effect together."""
+        return {outcome: self.begun(self.diagrams.wrapped(effect[outcome], tag)) for outcome in effect}
+
+    def head(self, one, tag):
+        """The head of a block of a statement that does this before."""
+        return self.begun(self.diagrams.wrapped(one, ("open", *tag)))
+
+    def a_round(self, one):
+        """What a round does whose block does this."""
+        return self.begun(self.diagrams.wrapped(one, ("round",)))
 
 
 def use_effect(effects, node):
     """Of a statement with a name or a cell."""
     if node.word not in DIGITS:
-        return {"done": KEPT}, []
+        return {"done": effects.begun(KEPT)}, []
     if len(node.row) == 2:
-        return {"done": effects.mark(node.target, node.word)}, []
+        return {"done": effects.begun(effects.marked_leaf(node.target, node.word))}, []
     if not node.has_counter():
-        return {"done": effects.mark((*node.target, node.row[2]), node.word)}, []
+        return {"done": effects.begun(effects.marked_leaf((*node.target, node.row[2]), node.word))}, []
     rank = node.rank()
     more = node.row[2][1]
     branches = [KEPT]
     for value in effects.marked.get(node.counts[rank].spot, []):
-        branches.append(effects.mark((*node.target, value + more), node.word))
-    return {"done": effects.diagrams.made(rank, branches)}, []
+        branches.append(effects.marked_leaf((*node.target, value + more), node.word))
+    return {"done": effects.begun(effects.diagrams.made(rank, branches))}, []
 
 
 def either_effect(effects, node):
     """Of an either."""
     effect = {}
-    for part in node.parts:
-        inner = effects.of_part(part)
+    heads = []
+    for at, part in enumerate(node.parts):
+        inner = effects.whole(effects.of_part(part), ("either", at))
         for outcome in inner:
             effects.gain(effect, outcome, inner[outcome])
-    return effect, [KEPT] * len(node.parts)
+        heads.append(effects.head(KEPT, ("either", at)))
+    return effect, heads
 
 
 def again_of(effects, inner):
     """What a round does that may be followed by another one, if its block has this effect."""
-    return effects.diagrams.joined(inner.get("done", 0), inner.get("next", 0))
+    return effects.a_round(effects.diagrams.joined(inner.get("done", 0), inner.get("next", 0)))
 
 
 def ending_effect(effects, inner, head):
-    """The effect of a loop by rounds that are its last ones; the head is the one of its block."""
+    """What the rounds of a loop do of which the last one ends it, if this is done ahead of a round."""
     effect = {}
     for outcome in inner:
         if outcome not in ("done", "next"):
             told = "done" if outcome == "leave" else outcome
-            effects.gain(effect, told, effects.diagrams.followed(head, inner[outcome]))
+            effects.gain(effect, told, effects.diagrams.followed(head, effects.a_round(inner[outcome])))
     return effect
+
+
+def loop_head(effects, head):
+    """The head of a loop's block, if this is done ahead of a round."""
+    return effects.diagrams.followed(effects.head(head, ("loop",)), effects.diagrams.step)
 
 
 def free_effect(effects, node):
     """Of a while or an ever."""
     inner = effects.of_part(node.parts[0])
-    head = effects.started(again_of(effects, inner), MANY_ROUNDS)
+    head = effects.diagrams.started(again_of(effects, inner), MANY_ROUNDS)
     effect = ending_effect(effects, inner, head)
     if node.word == "while":
         effects.gain(effect, "done", head)
-    return effect, [head]
+    return effects.whole(effect, ("loop",)), [loop_head(effects, head)]
 
 
 def count_effect(effects, node):
     """Of a count."""
+    diagrams = effects.diagrams
     inner = effects.of_part(node.parts[0])
     again = again_of(effects, inner)
     rank = len(node.counts)
@@ -142,66 +153,74 @@ def count_effect(effects, node):
     heads = [0] * (1 + len(values))
     so_far = KEPT
     for kind, rounds in turns_of(low, high, values):
-        turn = effects.diagrams.chosen(again, rank, kind)
-        head = effects.diagrams.followed(so_far, effects.started(turn, rounds))
-        heads[kind] = effects.diagrams.joined(heads[kind], head)
-        so_far = effects.diagrams.followed(so_far, effects.repeated(turn, rounds))
-    head = effects.diagrams.parted(rank, heads)
+        turn = diagrams.chosen(again, rank, kind)
+        head = diagrams.followed(so_far, diagrams.started(turn, rounds))
+        heads[kind] = diagrams.joined(heads[kind], head)
+        so_far = diagrams.followed(so_far, diagrams.repeated(turn, rounds))
+    head = diagrams.parted(rank, heads)
     endings = ending_effect(effects, inner, head)
-    effect = {outcome: effects.diagrams.gathered(endings[outcome], rank) for outcome in endings}
+    effect = {outcome: diagrams.gathered(endings[outcome], rank) for outcome in endings}
     effects.gain(effect, "done", so_far)
-    return effect, [head]
+    return effects.whole(effect, ("loop",)), [loop_head(effects, head)]
 
 
 def jump_effect(effects, node):
     """Of a leave, a next or a back."""
-    return {node.word: KEPT}, []
+    return {node.word: effects.begun(KEPT)}, []
 
 
 def fail_effect(effects, node):
     """Of a fail."""
-    return {f"fail {node.row[1]}": KEPT}, []
+    return {f"fail {node.row[1]}": effects.begun(KEPT)}, []
 
 
 def try_effect(effects, node):
     """Of a try."""
+    diagrams = effects.diagrams
     handlers = node.row[2]
-    heads = [KEPT] + [0] * (len(node.parts) - 1)
+    befores = [KEPT] + [0] * (len(node.parts) - 1)
     inner = effects.of_part(node.parts[0])
     effect = {}
     for outcome in inner:
         at = handler_at(handlers, outcome)
+        told = diagrams.wrapped(inner[outcome], ("part", 0))
         if at is None:
-            effects.gain(effect, outcome, inner[outcome])
+            effects.gain(effect, outcome, told)
         else:
-            heads[at + 1] = effects.diagrams.joined(heads[at + 1], inner[outcome])
+            befores[at + 1] = diagrams.joined(befores[at + 1], told)
     for at in range(len(handlers)):
         handled = effects.of_part(node.parts[at + 1])
         for outcome in handled:
-            effects.gain(effect, outcome, effects.diagrams.followed(heads[at + 1], handled[outcome]))
-    if len(node.parts) == len(handlers) + 1:
-        return effect, heads
-    for outcome in effect:
-        heads[-1] = effects.diagrams.joined(heads[-1], effect[outcome])
-    return last_effect(effects, node, effect, heads[-1]), heads
+            told = diagrams.wrapped(handled[outcome], ("part", 1))
+            effects.gain(effect, outcome, diagrams.followed(befores[at + 1], told))
+    kinds = [0] + [1] * len(handlers)
+    if len(node.parts) > len(kinds):
+        kinds.append(2)
+        for outcome in effect:
+            befores[-1] = diagrams.joined(befores[-1], effect[outcome])
+        effect = last_effect(effects, node, effect, befores[-1])
+    heads = [effects.head(before, ("try", kind)) for before, kind in zip(befores, kinds)]
+    return effects.whole(effect, ("try",)), heads
 
 
-def last_effect(effects, node, before, head):
-    """Of a try with a finally block, by the effect of the try without it and the head of this block."""
+def last_effect(effects, node, before, ahead):
+    """Of the parts of a try with a last block, by the effect of those before it and what is done ahead of it."""
     last = effects.of_part(node.parts[-1])
     effect = {}
-    for outcome in before:
-        effects.gain(effect, outcome, effects.diagrams.followed(before[outcome], last.get("done", 0)))
     for outcome in last:
+        told = effects.diagrams.wrapped(last[outcome], ("part", 2))
         if outcome != "done":
-            effects.gain(effect, outcome, effects.diagrams.followed(head, last[outcome]))
+            effects.gain(effect, outcome, effects.diagrams.followed(ahead, told))
+        else:
+            for other in before:
+                effects.gain(effect, other, effects.diagrams.followed(before[other], told))
     return effect
 
 
 def call_effect(effects, node):
     """Of a call."""
     told = effects.ends[node.row[1]]
-    return {outcome: told[outcome] for outcome in told}, []
+    return {outcome: effects.begun(told[outcome]) for outcome in told}, []
 
 
 ACTIONS = {

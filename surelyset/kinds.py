@@ -23,6 +23,13 @@ def has_word_form(value):
     return all([letter in LETTERS for letter in value])
 
 
+def is_outcome(value):
+    """Whether any value is an outcome that a function may have."""
+    if not isinstance(value, str):
+        return False
+    return value == "done" or (value.startswith("fail ") and has_word_form(value[len("fail "):]))
+
+
 def is_list(value):
     """Whether any value may be passed as a list: tuples may be, too."""
     return isinstance(value, (list, tuple))

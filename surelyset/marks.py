@@ -68,3 +68,29 @@ def thinned(code, is_left):
     """The code with those digits alone for which the list tells True."""
     digits = digits_of(code, len(is_left))
     return code_of([digit if left else KEEP for digit, left in zip(digits, is_left)])
+
+
+def mapped(mask, is_left, more):
+    """The mask of the codes with only those digits left, and with a code of other digits in their places."""
+    told = 0
+    for code in codes_of(mask):
+        told |= 1 << (thinned(code, is_left) + more)
+    return told
+
+
+def told_rows(mask, many, words):
+    """The codes of a mask as an ascending tuple of tuples, with the word for each of so many digits."""
+    rows = [tuple([words[digit] for digit in digits_of(code, many)]) for code in codes_of(mask)]
+    return tuple(sorted(set(rows)))
+
+
+def codes_within(code):
+    """The codes that keep at least the places which this one keeps, ascending."""
+    codes = [0]
+    weight = 1
+    while code:
+        if code % 3 != KEEP:
+            codes = [more * weight + lower for more in range(3) for lower in codes]
+        weight *= 3
+        code //= 3
+    return codes

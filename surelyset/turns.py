@@ -27,14 +27,18 @@ def place_values(node, count, places):
 
 
 def turns_of(low, high, values):
-    """The turns of a count, in order: tuples (kind, rounds). The values are those of the kinds from 1 on."""
+    """The turns of a count, or of its rounds from low to high - 1, in order: tuples (kind, rounds).
+
+    The values, those of the kinds from 1 on, may be those of further rounds, too.
+    """
     turns = []
     at = low
     for before, value in enumerate(values):
-        if at < value:
-            turns.append((0, value - at))
-        turns.append((before + 1, 1))
-        at = value + 1
+        if at <= value < high:
+            if at < value:
+                turns.append((0, value - at))
+            turns.append((before + 1, 1))
+            at = value + 1
     if at < high:
         turns.append((0, high - at))
     return turns

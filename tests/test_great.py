@@ -5,9 +5,12 @@ import unittest
 
 from surelyset.cells import ranges, read_ranges
 from surelyset.ends import ends, outcomes
+from surelyset.initial import hopeless, initial, needed
+from surelyset.papers import is_paper, paper, shown
 from surelyset.programs import Program
 from surelyset.running import run
 from surelyset.states import Checker, faults, states
+from surelyset.ways import fault_way, least_steps, led, way
 from tests.makers import SmallMaker
 from tests.support import Body
 
@@ -106,6 +109,35 @@ class LineTest(unittest.TestCase):
         self.assertEqual([("done",)] * 12, [outcomes(self.program, name) for name in WORDS])
 
 
+    def test_papers(self):
+        places = [("b", "pba"), ("main", "rm", 7), ("l", "rl", 0)]
+        told = paper(self.program, places)
+        self.assertEqual(sorted(WORDS), list(told))
+        self.assertEqual(((S, S, U), (S, U, U)), told["l"][0])
+        self.assertTrue(is_paper(self.program, places, told))
+        self.assertEqual(((S, S, U), (S, U, U)), shown(self.program, places, told, ("l", (0,))))
+        self.assertEqual((("none", S, "none"),), shown(self.program, places, told, ("main", (3,))))
+
+    def test_ways(self):
+        spot = ("l", (2, 0, 1))
+        told = fault_way(self.program, spot, 0)
+        states_there, steps, counters = led(self.program, spot, told, ("rl", 0), "pmb", ("rm", 1))
+        self.assertEqual((U, U, S), states_there)
+        self.assertEqual(({"v": 0}, 12), (counters, len(told[1])))
+        self.assertEqual(steps, least_steps(self.program, spot, (U, U), ("rl", 0), "pmb"))
+        told = way(self.program, ("main", (3,)), (S, S, U), ("rm", SIZE - 1), "pmb", ("rm", 0))
+        self.assertIsNone(told)
+        told = way(self.program, ("main", (3,)), (S, S, S), ("rm", SIZE - 1), "pmb", ("rm", 0))
+        self.assertEqual(10 ** 300, led(self.program, ("main", (3,)), told)[1])
+
+    def test_initial(self):
+        told = needed(self.program)
+        self.assertEqual({"pmb": True}, told["main"])
+        self.assertEqual({"pbb": True, "rb": ((0, 1),)}, told["b"])
+        self.assertEqual(((0, 1), (11, 12)), initial(self.program)["l"][1]["rl"][1])
+        self.assertEqual((), hopeless(self.program))
+
+
 class DeepTest(unittest.TestCase):
     def test_counts_seven_deep(self):
         """Each round of each count uses a cell of its own in the innermost block."""
@@ -120,6 +152,23 @@ class DeepTest(unittest.TestCase):
                           (many, many + 2, "sure"), (many + 2, many + 3, "fault"), (many + 3, many + 5, "sure"),
                           (many + 5, SIZE, "fault")), ranges(program, ("main", (1,)), "a"))
         self.assertEqual(((U, S, U),), states(program, ("main", (1,)), ("a", 3), ("a", 4), ("a", many - 1)))
+
+
+    def test_ways_six_deep(self):
+        """Each round of each count may use a cell of its own in the innermost block."""
+        many = SIZE - 9
+        counters = ["ca", "cb", "cc", "cd", "ce", "cf"]
+        body = [("either", [("put" if at else "cut", "a", (counter, at))], []) for at, counter in enumerate(counters)]
+        for counter in counters[::-1]:
+            body = [("count", counter, 0, many, body)]
+        program = Program({"main": (None, {"a": (SIZE, ())}, body)})
+        least = 6
+        for _ in range(6):
+            least = 1 + many * (1 + least)
+        for wanted, more in ((U, U), 0), ((S, U), 1), ((U, S), 1), ((S, S), 2):
+            names = [("a", 3), ("a", many - 1)]
+            told = way(program, ("main", (1,)), wanted, *names)
+            self.assertEqual((wanted, least + more, {}), led(program, ("main", (1,)), told, *names))
 
 
 class RandomTest(unittest.TestCase):
@@ -143,6 +192,9 @@ class RandomTest(unittest.TestCase):
             seen = [name for word in "mnopqrstuvwxyz" for name in self.seen(program, spot[0], word)]
             names = chance.sample(seen, 3)
             rows = checker(spot, names)
+            for row in rows[:2]:
+                told_way = way(program, spot, row, *names)
+                self.assertEqual((row, least_steps(program, spot, row, *names)), led(program, spot, told_way, *names)[:2])
             for at, name in enumerate(names):
                 self.assertEqual(checker(spot, [name]), tuple(sorted({(row[at],) for row in rows})))
         for _ in range(30):
