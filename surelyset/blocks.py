@@ -22,6 +22,20 @@ def blocks_of(statement):
     return parts
 
 
+def with_blocks(statement, blocks):
+    """The statement with other blocks, as many as it has, in the order of blocks_of."""
+    word = statement[0]
+    if word == "either":
+        return ("either", *blocks)
+    if word in LOOPS:
+        return (*statement[:-1], blocks[0])
+    if word != "try":
+        return statement
+    _, _, handlers, last = statement
+    inner = [(words, block) for (words, _), block in zip(handlers, blocks[1:])]
+    return ("try", blocks[0], tuple(inner), blocks[-1] if last else last)
+
+
 def handler_at(handlers, outcome):
     """The index of the handler that goes on behind a try's block with this outcome, None if there is none."""
     if not outcome.startswith("fail "):

@@ -2,7 +2,7 @@
 
 from surelyset.desks import Desk
 from surelyset.errors import UnknownName, UnknownSpot
-from surelyset.places import array_length, place_of
+from surelyset.places import array_length
 from surelyset.verdicts import look_ranges, spot_ranges
 
 

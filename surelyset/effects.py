@@ -75,7 +75,7 @@ class Effects:
         """The effect of a statement whose blocks have this effect together."""
         return {outcome: self.begun(self.diagrams.wrapped(effect[outcome], tag)) for outcome in effect}
 
-    def head(self, one, tag):
+    def opened(self, one, tag):
         """The head of a block of a statement that does this before."""
         return self.begun(self.diagrams.wrapped(one, ("open", *tag)))
 
@@ -108,7 +108,7 @@ def either_effect(effects, node):
         inner = effects.whole(effects.of_part(part), ("either", at))
         for outcome in inner:
             effects.gain(effect, outcome, inner[outcome])
-        heads.append(effects.head(KEPT, ("either", at)))
+        heads.append(effects.opened(KEPT, ("either", at)))
     return effect, heads
 
 
@@ -129,7 +129,7 @@ def ending_effect(effects, inner, head):
 
 def loop_head(effects, head):
     """The head of a loop's block, if this is done ahead of a round."""
-    return effects.diagrams.followed(effects.head(head, ("loop",)), effects.diagrams.step)
+    return effects.diagrams.followed(effects.opened(head, ("loop",)), effects.diagrams.step)
 
 
 def free_effect(effects, node):
@@ -199,7 +199,7 @@ def try_effect(effects, node):
         for outcome in effect:
             befores[-1] = diagrams.joined(befores[-1], effect[outcome])
         effect = last_effect(effects, node, effect, befores[-1])
-    heads = [effects.head(before, ("try", kind)) for before, kind in zip(befores, kinds)]
+    heads = [effects.opened(before, ("try", kind)) for before, kind in zip(befores, kinds)]
     return effects.whole(effect, ("try",)), heads
 
 

@@ -41,7 +41,7 @@ class Machine:
         self.choices = choices
         self.most = most
         self.taken = 0
-        self.chosen = 0
+        self.drawn = 0
         self.seen = []
         self.stop = None
         self.tasks = []
@@ -64,13 +64,13 @@ class Machine:
 
     def choice(self, many):
         """The next choice, one of so many; None, and the run stops, if none is left."""
-        at = self.chosen
+        at = self.drawn
         if at == len(self.choices):
             self.stop = "open"
             return None
         if not is_integer(self.choices[at]) or not 0 <= self.choices[at] < many:
             raise InvalidChoice(at)
-        self.chosen += 1
+        self.drawn += 1
         return self.choices[at]
 
     def call(self, frame, called):

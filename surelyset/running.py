@@ -49,4 +49,4 @@ def run(program, choices, *, most=1000):
         raise OutOfRange(most)
     machine = Machine(program.functions, choices, most)
     ending = machine.finish()
-    return Run(tuple(machine.seen), ending, machine.taken, machine.chosen)
+    return Run(tuple(machine.seen), ending, machine.taken, machine.drawn)

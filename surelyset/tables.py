@@ -4,7 +4,7 @@ from surelyset.diagrams import Diagrams
 from surelyset.effects import Effects
 from surelyset.holdings import Holding
 from surelyset.kinds import is_outcome, is_tuple_of
-from surelyset.marks import ENDS, KEEP, STATES, code_of, mapped
+from surelyset.marks import ENDS, STATES, code_of, mapped
 from surelyset.reaches import Reach
 from surelyset.studies import ends_of_effect
 

@@ -35,7 +35,7 @@ class Trail:
         order = sorted(set([(self.plan(call)[0], call) for call in calls]))
         for at, (_, call) in enumerate(order):
             self.numbers[call] = at
-        return [(call[1], self.row(self.plan(call)[1])) for _, call in order]
+        return [(call[1], self.row_of(self.plan(call)[1])) for _, call in order]
 
     def calls_in(self, traces):
         """A dict from the tags of the calls in these traces, and in the plans of those calls, to True."""
@@ -54,7 +54,7 @@ class Trail:
                     waiting.append(found)
         return calls
 
-    def row(self, trace):
+    def row_of(self, trace):
         """The row that a trace tells."""
         if trace not in self.rows:
             self.rows[trace] = tuple([self.entry(tag, inner) for tag, inner, _ in self.traces.items_of(trace)])
@@ -63,7 +63,7 @@ class Trail:
     def entry(self, tag, inner):
         """The entry that an item tells."""
         if tag[0] == "either":
-            return ("either", tag[1], self.row(inner))
+            return ("either", tag[1], self.row_of(inner))
         if tag[0] == "loop":
             return ("loop", tuple(self.pieces(inner)))
         if tag[0] == "try":
@@ -72,13 +72,13 @@ class Trail:
 
     def pieces(self, trace):
         """The pieces of a loop with these rounds."""
-        return [(times, self.row(inner)) for _, inner, times in self.traces.items_of(trace)]
+        return [(times, self.row_of(inner)) for _, inner, times in self.traces.items_of(trace)]
 
     def try_rows(self, trace):
         """The rows of a try with these parts; None for a part that is not among them."""
         rows = [None, None, None]
         for tag, inner, _ in self.traces.items_of(trace):
-            rows[tag[1]] = self.row(inner)
+            rows[tag[1]] = self.row_of(inner)
         return rows
 
     def open_row(self, trace, last):
