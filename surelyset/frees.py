@@ -26,6 +26,8 @@ class FreeSpots:
         self.outer = {}
         body = outline.bodies[function]
         self.note_block(body, None, 0)
+        # By the spot of a try: the mask of the readings in its last block, and what that does, as masks by outcomes.
+        self.lasts = {}
         self.after = {}
         self.read_after = {}
         for spot in sorted(set(self.homes)):
@@ -68,16 +70,14 @@ class FreeSpots:
         """Finds how runs go on at a free spot."""
         part, at = self.homes[spot]
         if at == len(part.nodes):
-            self.leave(spot, part, "done", KEPT)
+            self.leave(spot, part, {"done": KEPT})
             return
         node = part.nodes[at]
         if node.parts:
             self.enter(spot, part, at)
             return
         self.read_after[spot] |= self.readings.of_node(node)
-        effect = self.readings.effects.of_node(node)
-        for outcome in effect:
-            self.go_behind(spot, node, outcome, self.readings.diagrams.flat(effect[outcome]))
+        self.go_behind(spot, node, self.readings.done_by(self.readings.effects.of_node(node)))
 
     def enter(self, spot, part, at):
         """Goes on at a statement with blocks."""
@@ -92,53 +92,71 @@ class FreeSpots:
         if node.word == "while" or not has_rounds(node, 1):
             self.gain(spot, self.spot_in(part, at + 1), KEPT)
 
-    def go_behind(self, spot, node, outcome, mask):
-        """Goes on behind a statement with this outcome."""
+    def go_behind(self, spot, node, masks):
+        """Goes on behind a statement with these outcomes, a dict to masks of what is done up to them."""
         part, at = self.homes[node.spot]
-        if mask == 0:
-            return
-        if outcome == "done":
-            self.gain(spot, self.spot_in(part, at + 1), mask)
-        else:
-            self.leave(spot, part, outcome, mask)
+        rest = {}
+        for outcome in masks:
+            if outcome == "done":
+                self.gain(spot, self.spot_in(part, at + 1), masks[outcome])
+            else:
+                rest[outcome] = masks[outcome]
+        if rest:
+            self.leave(spot, part, rest)
 
-    def leave(self, spot, part, outcome, mask):
-        """Goes on behind a block with this outcome."""
+    def leave(self, spot, part, masks):
+        """Goes on behind a block with these outcomes."""
         node, number = self.outer[part.end]
         if node is None:
             return
         if node.word == "either":
-            self.go_behind(spot, node, outcome, mask)
+            self.go_behind(spot, node, masks)
         elif node.word in LOOPS:
-            self.leave_round(spot, node, outcome, mask)
+            self.leave_round(spot, node, masks)
         else:
-            at = handler_at(node.row[2], outcome) if number == 0 else None
-            if at is not None:
-                self.gain(spot, self.spot_in(node.parts[at + 1], 0), mask)
+            self.leave_try(spot, node, masks if number != 0 else self.without_handled(spot, node, masks))
+
+    def leave_round(self, spot, node, masks):
+        """Goes on behind a round with these outcomes."""
+        behind = {}
+        for outcome in masks:
+            if outcome not in ("done", "next"):
+                put_in(behind, "done" if outcome == "leave" else outcome, masks[outcome])
+                continue
+            if has_rounds(node, 2):
+                self.gain(spot, self.spot_in(node.parts[0], 0), masks[outcome])
+            if node.word != "ever":
+                put_in(behind, "done", masks[outcome])
+        self.go_behind(spot, node, behind)
+
+    def without_handled(self, spot, node, masks):
+        """Goes on in the handlers behind the block of a try; the outcomes for which there is none."""
+        rest = {}
+        for outcome in masks:
+            at = handler_at(node.row[2], outcome)
+            if at is None:
+                rest[outcome] = masks[outcome]
             else:
-                self.leave_try(spot, node, outcome, mask)
+                self.gain(spot, self.spot_in(node.parts[at + 1], 0), masks[outcome])
+        return rest
 
-    def leave_round(self, spot, node, outcome, mask):
-        """Goes on behind a round with this outcome."""
-        if outcome not in ("done", "next"):
-            self.go_behind(spot, node, "done" if outcome == "leave" else outcome, mask)
-            return
-        if has_rounds(node, 2):
-            self.gain(spot, self.spot_in(node.parts[0], 0), mask)
-        if node.word != "ever":
-            self.go_behind(spot, node, "done", mask)
-
-    def leave_try(self, spot, node, outcome, mask):
+    def leave_try(self, spot, node, masks):
         """Goes on behind the block of a try, or behind its handler, if no further handler goes on."""
         if len(node.parts) == len(node.row[2]) + 1:
-            self.go_behind(spot, node, outcome, mask)
+            self.go_behind(spot, node, masks)
             return
-        last = node.parts[-1]
-        self.read_after[spot] |= mask_followed(mask, self.readings.within(last))
-        effect = self.readings.effects.of_part(last)
-        for other in effect:
-            done = self.readings.diagrams.flat(effect[other])
-            self.go_behind(spot, node, outcome if other == "done" else other, mask_followed(mask, done))
+        if node.spot not in self.lasts:
+            last = node.parts[-1]
+            done = self.readings.done_by(self.readings.effects.of_part(last))
+            self.lasts[node.spot] = (self.readings.within(last), done)
+        read, done = self.lasts[node.spot]
+        behind = {}
+        for outcome in masks:
+            self.read_after[spot] |= mask_followed(masks[outcome], read)
+            for other in done:
+                told = outcome if other == "done" else other
+                put_in(behind, told, mask_followed(masks[outcome], done[other]))
+        self.go_behind(spot, node, behind)
 
     def is_hopeless(self):
         """Whether some run drops the name and reads it with no free spot between."""
@@ -169,3 +187,8 @@ class FreeSpots:
 def has_rounds(node, many):
     """Whether a loop may have so many rounds; a try has one."""
     return node.word != "count" or node.row[3] - node.row[2] >= many
+
+
+def put_in(masks, outcome, mask):
+    """Lets runs come to an outcome, a key of a dict to masks, also in this way."""
+    masks[outcome] = masks.get(outcome, 0) | mask

@@ -44,6 +44,10 @@ class Readings:
                 told |= self.diagrams.followed(done, self.of_node(node))
         return told
 
+    def done_by(self, effect):
+        """What an effect does by the time of its outcomes, a dict from those that some run has to masks."""
+        return {outcome: self.diagrams.flat(effect[outcome]) for outcome in effect if effect[outcome] != 0}
+
     def of_node(self, node):
         """The mask of the readings in a statement without blocks, since its beginning."""
         if node.word == "call":

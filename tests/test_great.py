@@ -3,10 +3,14 @@
 import random
 import unittest
 
+from surelyset.books import GuardedLoggedBook
 from surelyset.cells import ranges, read_ranges
+from surelyset.cuts import bound, bound_for, cheapest, is_choice, settled
 from surelyset.ends import ends, outcomes
 from surelyset.initial import hopeless, initial, needed
 from surelyset.papers import is_paper, paper, shown
+from surelyset.plain import growth, without_finally
+from surelyset.profiles import profile
 from surelyset.programs import Program
 from surelyset.running import run
 from surelyset.states import Checker, faults, states
@@ -136,6 +140,72 @@ class LineTest(unittest.TestCase):
         self.assertEqual({"pbb": True, "rb": ((0, 1),)}, told["b"])
         self.assertEqual(((0, 1), (11, 12)), initial(self.program)["l"][1]["rl"][1])
         self.assertEqual((), hopeless(self.program))
+
+
+    def test_cuts(self):
+        """x is read behind an either in which it may be set: a setting ahead of it or in the other block."""
+        prices = {spot: SIZE for spot in self.program.spots if spot[0] == "c"}
+        cost, spots = cheapest(self.program, "c", "pcb", prices)
+        self.assertEqual((SIZE, 1), (cost, len(spots)))
+        self.assertEqual(SIZE, bound(self.program, "c", "pcb", prices, bound_for(self.program, "c", "pcb", prices)))
+        self.assertTrue(is_choice(self.program, "c", "pcb", spots))
+        prices[("c", (1, 1, 0))] = 1
+        self.assertEqual((1, (("c", (1, 1, 0)),)), cheapest(self.program, "c", "pcb", prices))
+        with self.assertRaises(OverflowError):
+            settled(self.program, "c", "pcb", spots)
+
+    def test_profiles(self):
+        told = profile(self.program, "b")
+        self.assertEqual({"done": {f"pm{letter}": "keep" for letter in "abcdefg"}}, told.outcomes)
+        self.assertEqual({f"pm{letter}": "none" for letter in "abcdefg"}, told.reads)
+        self.assertEqual(77, len(profile(self.program, "l").names))
+
+    def test_books(self):
+        book = GuardedLoggedBook(self.program, ("main", "rm"), *[(name, f"p{name[0]}a") for name in WORDS])
+        for _ in range(20):
+            with book.trial():
+                book["main"] = book["main"]
+            book.attempt(lambda held: held.edit(self.program))
+        self.assertEqual((20, 80), (book.undoable, len(book.log)))
+        book.undo(20)
+        with self.assertRaises(ValueError):
+            GuardedLoggedBook(self.program, ("l", "rl"))
+
+
+class FinallyTest(unittest.TestCase):
+    """Programs with many finally blocks, in one another, and many failures."""
+
+    def nested(self, deep, word="drop"):
+        fails = [("either", *[[("fail", letter)] for letter in "abcde"], [])]
+        body = [("call", "f")] * 3
+        for _ in range(deep):
+            last = [("call", "g"), ("read", "x"), ("either", [("back",)], [("set", "x")], [(word, "x")])]
+            body = [("try", [*body, ("call", "f")], [], last)]
+        return Program({"main": (None, {"x": "plain"}, [("drop", "x"), *body, ("read", "x")]), "f": (None, {}, fails),
+                        "g": ("main", {}, [("either", [("set", "x")], [("call", "f")], [(word, "x")])])})
+
+    def test_cuts(self):
+        program = self.nested(6)
+        spots = [spot for spot in program.spots if spot[0] == "main" and not any(spot[1][1::2])]
+        prices = {spot: 7 for spot in spots}
+        self.assertIsNone(cheapest(program, "main", "x", prices))
+        self.assertIsNone(bound_for(program, "main", "x", prices))
+        self.assertFalse(is_choice(program, "main", "x", spots))
+        # Without the drops in the finally blocks there is a choice.
+        program = self.nested(6, "read")
+        prices[("main", (1,))] = SIZE
+        told = cheapest(program, "main", "x", prices)
+        self.assertEqual((7, 1), (told[0], len(told[1])))
+        self.assertEqual(7, bound(program, "main", "x", prices, bound_for(program, "main", "x", prices)))
+        self.assertTrue(is_choice(program, "main", "x", told[1]))
+
+    def test_growth(self):
+        # A try with a failure behind, and a copy of a finally block of six statements for each way out of it.
+        self.assertEqual(6 + 4 + 2 + 6 + 6 * 6 + 5, growth(self.nested(1)))
+        self.assertEqual(59 + 5 * (3 + 7 * 6 + 6), growth(self.nested(6)))
+        self.assertEqual(59, len(without_finally(self.nested(1))[0]))
+        with self.assertRaises(OverflowError):
+            without_finally(self.nested(6))
 
 
 class DeepTest(unittest.TestCase):

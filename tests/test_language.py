@@ -81,6 +81,57 @@ class LanguageTest(unittest.TestCase):
                 if isinstance(node, ast.Call) and isinstance(node.func, ast.Attribute):
                     self.assertIn(node.func.attr, own | METHODS | {"__init__"}, f"{path}:{node.lineno}")
 
+    def test_orders(self):
+        """As a class has an order, what is sorted or compared is plainly numbers, or a set."""
+        for path, tree in self.trees():
+            for node in ast.walk(tree):
+                if isinstance(node, ast.Call) and isinstance(node.func, ast.Name):
+                    where = f"{path}:{node.lineno}"
+                    if node.func.id == "sorted":
+                        self.assertEqual("set(", ast.unparse(node.args[0])[:4], where)
+                    if node.func.id in ("min", "max"):
+                        self.assertTrue(any(self.is_number(value) for value in node.args), where)
+
+    def is_number(self, node):
+        """Whether this is plainly a number, or a list of such."""
+        if isinstance(node, ast.ListComp):
+            node = node.elt
+        if isinstance(node, ast.Call) and isinstance(node.func, ast.Name):
+            return node.func.id in ("int", "len")
+        return isinstance(node, ast.Constant) or (isinstance(node, ast.Name) and node.id.isupper())
+
+    def test_one_meaning(self):
+        """No name is a property, or a static or class method, and something else too."""
+        kinds = {"property": set(), "static": set(), "method": set(), "attribute": set()}
+        for _, tree in self.trees():
+            for node in ast.walk(tree):
+                if isinstance(node, ast.ClassDef):
+                    for inner in node.body:
+                        if isinstance(inner, ast.FunctionDef):
+                            signs = "".join(map(ast.unparse, inner.decorator_list))
+                            is_property = signs == "property" or signs.endswith(".setter")
+                            kinds["property" if is_property else "static" if signs else "method"].add(inner.name)
+                if isinstance(node, ast.Attribute) and isinstance(node.ctx, ast.Store):
+                    kinds["attribute"].add(node.attr)
+        for one in kinds:
+            for other in kinds:
+                if one != other:
+                    self.assertEqual(set(), kinds[one] & kinds[other], (one, other))
+
+    def test_imports_go_one_way(self):
+        """Each import is used, and no two files import from each other, not through others either."""
+        imports = {}
+        for path, tree in self.trees():
+            words = {node.id for node in ast.walk(tree) if isinstance(node, ast.Name)}
+            rows = [node for node in tree.body if isinstance(node, ast.ImportFrom)]
+            self.assertEqual([], [name.name for row in rows for name in row.names if name.name not in words], path)
+            imports[path.stem] = {row.module.split(".")[1] for row in rows}
+        while imports:
+            free = [name for name in imports if not imports[name] & imports.keys()]
+            self.assertTrue(free, imports)
+            for name in free:
+                del imports[name]
+
     def test_generator_expressions(self):
         for path, tree in self.trees():
             for node in ast.walk(tree):
