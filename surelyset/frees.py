@@ -4,11 +4,9 @@ What was done to the name between two of them, or before a reading, is a mask, a
 """
 
 from surelyset.blocks import LOOPS, handler_at
-from surelyset.marks import KEPT, UNSET, mask_followed
+from surelyset.marks import DROPPED, KEPT, mask_followed
 from surelyset.programs import is_spot_form
 from surelyset.readings import Readings
-
-DROPPED = 1 << UNSET
 
 
 class FreeSpots:

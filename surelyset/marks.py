@@ -10,8 +10,9 @@ STATES = ("none", "set", "unset")
 KEEP = 0
 SET = 1
 UNSET = 2
-# The mask of the code that keeps all places.
+# The mask of the code that keeps all places, and the one of the code for one place that becomes unset.
 KEPT = 1
+DROPPED = 4
 
 
 def code_of(digits):

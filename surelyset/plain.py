@@ -21,14 +21,15 @@ def without_finally(program):
         raise TooMany(MAX_STATEMENTS)
     if size.levels > MAX_DEPTH:
         raise TooMany(MAX_DEPTH)
+    made = {}
     origins = {}
     for name in functions:
         parent, names, _ = functions[name]
         bed = plain_bed(endings, endings.outline.bodies[name])
-        functions[name] = (parent, names, block_of(bed))
+        made[name] = (parent, names, block_of(bed))
         for spot, origin in origins_of(name, bed, ()):
             origins[spot] = origin
-    return Program(functions), {spot: origins[spot] for spot in sorted(set(origins))}
+    return Program(made), {spot: origins[spot] for spot in sorted(set(origins))}
 
 
 def growth(program):

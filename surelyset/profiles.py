@@ -67,8 +67,6 @@ class Profile:
         return is_profile_at_most(other, self) and not is_profile_at_most(self, other)
 
     def __and__(self, other):
-        if not isinstance(other, Profile):
-            return NotImplemented
         if self.names != other.names:
             raise InvalidProfile(other)
         mine, others = self.outcomes, other.outcomes
@@ -76,8 +74,6 @@ class Profile:
         return Profile(both, lesser(READ_LEVELS, self.reads, other.reads))
 
     def __or__(self, other):
-        if not isinstance(other, Profile):
-            return NotImplemented
         if self.names != other.names:
             raise InvalidProfile(other)
         mine, others = self.outcomes, other.outcomes

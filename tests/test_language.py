@@ -16,6 +16,7 @@ METHODS = set("""append clear copy count endswith extend find get index insert i
     setdefault split splitlines startswith strip update upper values zfill bit_length isascii isdecimal removeprefix
     removesuffix add discard""".split())
 DUNDERS = set("""init eq repr str len enter exit call iter lt le gt ge ne and or contains getitem setitem bool""".split())
+CHANGING = ("append", "clear", "extend", "insert", "pop", "remove", "reverse", "setdefault", "update")
 BARRED = (ast.Global, ast.AsyncFunctionDef, ast.Await, ast.Div, ast.AnnAssign)
 
 
@@ -80,6 +81,25 @@ class LanguageTest(unittest.TestCase):
             for node in ast.walk(tree):
                 if isinstance(node, ast.Call) and isinstance(node.func, ast.Attribute):
                     self.assertIn(node.func.attr, own | METHODS | {"__init__"}, f"{path}:{node.lineno}")
+
+    def test_loops(self):
+        """What a loop iterates over is not changed in it."""
+        for path, tree in self.trees():
+            for node in ast.walk(tree):
+                if isinstance(node, ast.For):
+                    heads = [node.iter]
+                    if isinstance(node.iter, ast.Call) and isinstance(node.iter.func, ast.Attribute):
+                        heads.append(node.iter.func.value)
+                    elif isinstance(node.iter, ast.Call) and node.iter.func.id in ("enumerate", "zip", "reversed"):
+                        heads.extend(node.iter.args)
+                    words = {ast.unparse(head) for head in heads}
+                    for inner in [inner for row in node.body for inner in ast.walk(row)]:
+                        where = f"{path}:{getattr(inner, 'lineno', 0)}"
+                        if isinstance(inner, ast.Subscript) and not isinstance(inner.ctx, ast.Load):
+                            self.assertNotIn(ast.unparse(inner.value), words, where)
+                        if isinstance(inner, ast.Call) and isinstance(inner.func, ast.Attribute):
+                            if inner.func.attr in CHANGING:
+                                self.assertNotIn(ast.unparse(inner.func.value), words, where)
 
     def test_orders(self):
         """As a class has an order, what is sorted or compared is plainly numbers, or a set."""
