@@ -11,15 +11,16 @@ class Trial:
     def __init__(self, book, entries):
         self.book = book
         self.entries = entries
+        self.ended = book._ended
 
     def __enter__(self):
         self.history = self.book._history
         self.at = self.book._at
-        self.book._depth += 1
+        self.book._begin()
         return self.book
 
     def __exit__(self, kind, value, trace):
-        self.book._depth -= 1
+        self.ended.append(True)
         self.book._history = self.history
         self.book._at = self.at
         self.entries.append(("trial",))
@@ -31,15 +32,16 @@ class Attempt:
     def __init__(self, book, entries):
         self.book = book
         self.entries = entries
+        self.ended = book._ended
 
     def __enter__(self):
         self.history = self.book._history
         self.at = self.book._at
-        self.book._depth += 1
+        self.book._begin()
         return self.book
 
     def __exit__(self, kind, value, trace):
-        self.book._depth -= 1
+        self.ended.append(True)
         if kind is None:
             self.entries.append(("attempt", True))
         else:
@@ -55,7 +57,10 @@ class Book:
         # The programs of the edits that can be undone, the one of the book, and those that can be done again.
         self._history = (program,)
         self._at = 0
-        self._depth = 0
+        # How many trials, attempts and tries were begun, and an entry for each of them that came to its end: a
+        # list, as the end of a with block counts nothing down.
+        self._begun = 0
+        self._ended = []
 
     def __iter__(self):
         raise TypeError("a book is not iterated over")
@@ -91,7 +96,7 @@ class Book:
     @property
     def depth(self):
         """How many trials, attempts and tries are going on."""
-        return self._depth
+        return self._begun - len(self._ended)
 
     def edit(self, program):
         """Gives the book another program."""
@@ -140,9 +145,14 @@ class Book:
             told = action(book)
         return told
 
+    def _begin(self):
+        """Counts a trial, an attempt or a try that begins; those that came to their ends are forgotten."""
+        self._begun = self.depth + 1
+        self._ended.clear()
+
     def _may_go(self, count, most):
         """Raises the error that is due where so many edits are to be undone or done again."""
-        if self._depth > 0:
+        if self.depth > 0:
             raise InTrial()
         if not is_integer(count) or not 1 <= count <= most:
             raise OutOfRange(count)

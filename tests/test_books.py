@@ -1,5 +1,6 @@
 """Books: [29] of the document."""
 
+import contextlib
 import inspect
 import random
 import unittest
@@ -298,6 +299,42 @@ class TrialTest(unittest.TestCase):
                 book.edit(P)
             self.assertEqual((BARE, 1, 0, 1), state_of(book))
         self.assertEqual((P, 0, 0, 0), state_of(book))
+
+    def test_depth_counts_what_goes_on(self):
+        """Blocks one behind the other, and blocks that end in another order than that in which they began."""
+        for kind in KINDS:
+            book = kind(P)
+            for _ in range(5):
+                with book.trial():
+                    self.assertEqual(1, book.depth)
+                    for many in range(3):
+                        self.assertEqual((2, many), book.tried(lambda held: (held.depth, many)))
+                        self.assertEqual(2, book.attempt(lambda held: held.depth))
+                        self.assertEqual("Oops", failure(book.attempt, oops)[0])
+                        self.assertEqual(1, book.depth)
+                self.assertEqual(0, book.depth)
+            open_trials = [contextlib.ExitStack() for _ in range(4)]
+            for many, trial in enumerate(open_trials):
+                self.assertIs(book, trial.enter_context(book.trial()))
+                self.assertEqual(many + 1, book.depth)
+            for many, at in ((3, 1), (2, 3), (1, 0)):
+                open_trials[at].close()
+                self.assertEqual(many, book.depth)
+                self.assertEqual(many + 1, book.tried(lambda held: held.depth))
+                self.assertEqual("InTrial", failure(book.undo)[0])
+            open_trials[2].close()
+            self.assertEqual((P, 0, 0, 0), state_of(book))
+
+    def test_many_blocks_in_one_another(self):
+        book = GuardedLoggedBook(P)
+        with contextlib.ExitStack() as trials:
+            for many in range(200):
+                self.assertEqual(many, book.depth)
+                trials.enter_context(book.trial())
+            book.edit(BARE)
+            self.assertEqual((BARE, 1, 0, 200), state_of(book))
+        self.assertEqual((P, 0, 0, 0), state_of(book))
+        self.assertEqual((("edit", BARE), *[("trial",)] * 200), book.log)
 
     def test_trial_begins_with_its_block(self):
         book = Book(P)

@@ -16,6 +16,8 @@ METHODS = set("""append clear copy count endswith extend find get index insert i
     setdefault split splitlines startswith strip update upper values zfill bit_length isascii isdecimal removeprefix
     removesuffix add discard""".split())
 DUNDERS = set("""init eq repr str len enter exit call iter lt le gt ge ne and or contains getitem setitem bool""".split())
+# The methods that change nothing and call nothing that they are passed or hold; properties that are read, too.
+PURE = set("eq repr str len lt le gt ge ne and or contains getitem bool".split())
 CHANGING = ("append", "clear", "extend", "insert", "pop", "remove", "reverse", "setdefault", "update")
 BARRED = (ast.Global, ast.AsyncFunctionDef, ast.Await, ast.Div, ast.AnnAssign)
 
@@ -137,6 +139,68 @@ class LanguageTest(unittest.TestCase):
             for other in kinds:
                 if one != other:
                     self.assertEqual(set(), kinds[one] & kinds[other], (one, other))
+
+    def definitions(self):
+        """All functions and methods: a list of (class or None, node)."""
+        found = []
+        for _, tree in self.trees():
+            for node in tree.body:
+                inside = node.body if isinstance(node, ast.ClassDef) else [node]
+                name = node.name if isinstance(node, ast.ClassDef) else None
+                found += [(name, inner) for inner in inside if isinstance(inner, ast.FunctionDef)]
+        return found
+
+    def has_sign(self, node, end):
+        return any(ast.unparse(sign).endswith(end) for sign in node.decorator_list)
+
+    def run_by(self, node, definitions):
+        """The functions and methods that may be run by this one itself."""
+        words, attributes = set(), set()
+        for inner in ast.walk(node):
+            if isinstance(inner, ast.Call) and isinstance(inner.func, ast.Name):
+                words.add(inner.func.id)
+            if isinstance(inner, ast.Attribute):
+                attributes.add(inner.attr)
+        for name, other in definitions:
+            if name is None or other.name == "__init__":
+                is_run = (name or other.name) in words
+            else:
+                # What is read is never a property's setter.
+                is_run = other.name in attributes and not self.has_sign(other, ".setter")
+            if is_run:
+                yield name, other
+
+    def test_operators(self):
+        """What operators and properties run calls no name that an object stores, and changes no object but new ones."""
+        stored = {node.attr for _, tree in self.trees() for node in ast.walk(tree)
+                  if isinstance(node, ast.Attribute) and isinstance(node.ctx, ast.Store)}
+        definitions = self.definitions()
+        reached = [(name, node) for name, node in definitions
+                   if name and (node.name.strip("_") in PURE and node.name.startswith("__") or self.has_sign(node, "property"))]
+        self.assertIn(("Profile", "__or__"), [(name, node.name) for name, node in reached])
+        for _, node in reached:
+            reached += [each for each in self.run_by(node, definitions) if each not in reached]
+        self.assertIn("greater", [node.name for _, node in reached])
+        for name, node in reached:
+            for inner in ast.walk(node):
+                where = f"{name} {node.name}, row {getattr(inner, 'lineno', 0)}"
+                if isinstance(inner, ast.Call) and isinstance(inner.func, ast.Attribute):
+                    self.assertFalse(inner.func.attr in stored, f"{inner.func.attr} in {where}")
+                if isinstance(inner, ast.Attribute) and node.name != "__init__":
+                    self.assertIsInstance(inner.ctx, ast.Load, where)
+
+    def test_ends_of_blocks(self):
+        """As a class has arithmetic signs, what an __exit__ runs and a finally have no + and no -."""
+        definitions = self.definitions()
+        reached = [each for each in definitions if each[1].name == "__exit__"]
+        self.assertEqual(["Trial", "Attempt"], [name for name, _ in reached])
+        for _, node in reached:
+            reached += [each for each in self.run_by(node, definitions) if each not in reached]
+        rows = [row for _, node in reached for row in node.body]
+        rows += [row for _, tree in self.trees() for node in ast.walk(tree) if isinstance(node, ast.Try) for row in node.finalbody]
+        for row in rows:
+            for inner in ast.walk(row):
+                self.assertNotIsInstance(inner, (ast.Add, ast.Sub, ast.UAdd, ast.USub), f"row {row.lineno}")
 
     def test_imports_go_one_way(self):
         """Each import is used, and no two files import from each other, not through others either."""
